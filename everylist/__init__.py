@@ -1,0 +1,1 @@
+"""Everylist: loops over lists of rows, decided for all lists."""

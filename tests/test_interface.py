@@ -1,0 +1,67 @@
+"""The interface: names, arguments and the files in which they are defined."""
+
+import importlib
+import inspect
+import unittest
+
+# The functions of each file that has landed, with their arguments.
+FUNCTIONS = {
+    "ratios": {"less": ["one", "two"], "plain": ["number"], "read_number": ["text"]},
+}
+
+# The classes of each file that has landed, with the arguments of their methods. (The errors: test_errors.)
+CLASSES = {
+    "ratios": {
+        "Ratio": {
+            "__init__": ["self", "top", "bottom"], "over": ["self", "other"], "__eq__": ["self", "other"],
+            "__str__": ["self"], "__neg__": ["self"],
+            "__add__": ["self", "other"], "__radd__": ["self", "other"], "__sub__": ["self", "other"],
+            "__rsub__": ["self", "other"], "__mul__": ["self", "other"], "__rmul__": ["self", "other"],
+        },
+    },
+    "rows": {
+        "Rows": {
+            "__init__": ["self", "kinds"], "kinds": ["self"], "fields_of": ["self", "kind"],
+            "is_row": ["self", "thing"], "grid": ["self", "powers"], "lists": ["self", "powers", "many"],
+            "__eq__": ["self", "other"],
+        },
+    },
+}
+
+
+def arguments(function):
+    return list(inspect.signature(function).parameters)
+
+
+class InterfaceTest(unittest.TestCase):
+    def test_functions(self):
+        for file, functions in FUNCTIONS.items():
+            module = importlib.import_module(f"everylist.{file}")
+            for name, expected in functions.items():
+                function = getattr(module, name)
+                self.assertEqual(arguments(function), expected, name)
+                self.assertEqual(function.__module__, f"everylist.{file}")
+
+    def test_classes(self):
+        for file, classes in CLASSES.items():
+            module = importlib.import_module(f"everylist.{file}")
+            for name, methods in classes.items():
+                own_class = getattr(module, name)
+                self.assertEqual(own_class.__module__, f"everylist.{file}")
+                for method, expected in methods.items():
+                    self.assertIn(method, vars(own_class), name)
+                    self.assertEqual(arguments(vars(own_class)[method]), expected, (name, method))
+
+    def test_the_bottom_has_a_default(self):
+        ratio = importlib.import_module("everylist.ratios").Ratio
+        self.assertEqual(inspect.signature(ratio).parameters["bottom"].default, 1)
+
+    def test_the_example_of_the_document(self):
+        rows = importlib.import_module("everylist.rows").Rows
+        shop = rows([["buy", ["price", "many"]], ["note", []]])
+        self.assertEqual(shop.kinds(), ["buy", "note"])
+        self.assertTrue(all([shop.is_row(row) for row in [("buy", 3, 2), ("note",), ("buy", 5, 1)]]))
+
+
+if __name__ == "__main__":
+    unittest.main()
