@@ -1,5 +1,6 @@
-"""The conventions of the package: what counts as an integer, a name and a list."""
+"""The conventions of the package: what counts as an integer, a name, a list and digits."""
 
+DIGITS = "0123456789"
 LETTERS = "abcdefghijklmnopqrstuvwxyz"
 LONGEST_NAME = 8
 
@@ -19,3 +20,8 @@ def is_name(thing):
     if not isinstance(thing, str) or not 1 <= len(thing) <= LONGEST_NAME:
         return False
     return all([letter in LETTERS for letter in thing])
+
+
+def are_digits(text):
+    """Tells whether a text is made of digits from 0 to 9, at least one."""
+    return text != "" and all([digit in DIGITS for digit in text])

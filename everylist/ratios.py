@@ -2,10 +2,8 @@
 
 from math import gcd
 
-from everylist.checks import is_int
+from everylist.checks import are_digits, is_int
 from everylist.errors import NoText
-
-DIGITS = "0123456789"
 
 
 class Ratio:
@@ -109,12 +107,7 @@ def _number_told(text):
     top, stroke, bottom = text.removeprefix("-").partition("/")
     if stroke == "":
         bottom = "1"
-    if not _are_digits(top) or not _are_digits(bottom) or int(bottom) == 0:
+    if not are_digits(top) or not are_digits(bottom) or int(bottom) == 0:
         return None
     number = Ratio(int(top), int(bottom))
     return plain(-number if text.startswith("-") else number)
-
-
-def _are_digits(text):
-    """Tells whether a text is made of digits from 0 to 9, at least one."""
-    return text != "" and all([digit in DIGITS for digit in text])

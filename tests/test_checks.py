@@ -1,8 +1,8 @@
-"""Point [3]: what an integer, a number, a name and a list is."""
+"""Point [3]: what an integer, a number, a name and a list is; and what digits are."""
 
 import unittest
 
-from everylist.checks import is_int, is_list, is_name
+from everylist.checks import are_digits, is_int, is_list, is_name
 from everylist.ratios import Ratio, is_number
 
 OTHERS = [True, False, None, "", "1", "a", 1.0, 0.5, 1j, [], [1], (), (1,), {}, {1}, b"", b"a", object(), int, len]
@@ -35,6 +35,12 @@ class ChecksTest(unittest.TestCase):
             self.assertIs(is_list(thing), True)
         for thing in (None, 1, "ab", {}, {1}, b"ab", range(2), iter([]), object(), Ratio(1)):
             self.assertIs(is_list(thing), False)
+
+    def test_digits(self):
+        for text in ("0", "9", "0123456789", "007"):
+            self.assertIs(are_digits(text), True)
+        for text in ("", " ", "-1", "1 ", "1/2", "1.0", "a", "1a", "1\n", "\u0661", "\u00b2"):
+            self.assertIs(are_digits(text), False)
 
 
 if __name__ == "__main__":

@@ -7,6 +7,8 @@ import unittest
 # The functions of each file that has landed, with their arguments.
 FUNCTIONS = {
     "ratios": {"less": ["one", "two"], "plain": ["number"], "read_number": ["text"]},
+    "sums": {"read_sum": ["text", "registers", "fields"], "sum_text": ["parts", "registers"]},
+    "texts": {"loop_text": ["loop"], "read_loop": ["text"]},
 }
 
 # The classes of each file that has landed, with the arguments of their methods. (The errors: test_errors.)
@@ -24,6 +26,23 @@ CLASSES = {
             "__init__": ["self", "kinds"], "kinds": ["self"], "fields_of": ["self", "kind"],
             "is_row": ["self", "thing"], "grid": ["self", "powers"], "lists": ["self", "powers", "many"],
             "__eq__": ["self", "other"],
+        },
+    },
+    "polys": {
+        "Poly": {
+            "__init__": ["self", "fields", "terms"], "__eq__": ["self", "other"], "__str__": ["self"],
+            "__neg__": ["self"], "__add__": ["self", "other"], "__radd__": ["self", "other"],
+            "__sub__": ["self", "other"], "__rsub__": ["self", "other"], "__mul__": ["self", "other"],
+            "__rmul__": ["self", "other"], "terms": ["self"], "at": ["self", "numbers"], "power": ["self", "k"],
+            "put": ["self", "fields", "polys"],
+        },
+    },
+    "loops": {
+        "Loop": {
+            "__init__": ["self", "rows", "starts", "changes", "told"], "registers": ["self"], "start": ["self", "name"],
+            "part": ["self", "kind", "name", "source"], "told_part": ["self", "source"],
+            "change": ["self", "kind", "name"], "told": ["self"], "run": ["self", "rows"], "behind": ["self", "rows"],
+            "powers": ["self"], "__eq__": ["self", "other"],
         },
     },
 }
@@ -58,9 +77,15 @@ class InterfaceTest(unittest.TestCase):
 
     def test_the_example_of_the_document(self):
         rows = importlib.import_module("everylist.rows").Rows
+        loop = importlib.import_module("everylist.loops").Loop
         shop = rows([["buy", ["price", "many"]], ["note", []]])
         self.assertEqual(shop.kinds(), ["buy", "note"])
         self.assertTrue(all([shop.is_row(row) for row in [("buy", 3, 2), ("note",), ("buy", 5, 1)]]))
+        bill = loop(shop, {"total": 0, "count": 0}, {"buy": {"total": "price*many + total", "count": "count + 1"}},
+                    "total - 1/2*count")
+        told = [bill.run([("buy", 3, 2), ("note",), ("buy", 5, 1)]), bill.change("buy", "total"),
+                bill.behind([("buy", 3, 2)])]
+        self.assertEqual(repr(told), "[10, 'total + price*many', {'total': 6, 'count': 1}]")
 
 
 if __name__ == "__main__":
