@@ -9,6 +9,15 @@ FUNCTIONS = {
     "ratios": {"less": ["one", "two"], "plain": ["number"], "read_number": ["text"]},
     "sums": {"read_sum": ["text", "registers", "fields"], "sum_text": ["parts", "registers"]},
     "texts": {"loop_text": ["loop"], "read_loop": ["text"]},
+    "comparing": {"parting": ["one", "other"], "alike": ["one", "other"], "always": ["loop"]},
+    "forms": {
+        "ends": ["loop"], "beginnings": ["loop"], "least": ["loop"], "without": ["loop", "name"], "needless": ["loop"],
+    },
+    "relations": {"relations": ["loop", "degree"], "holds": ["loop", "relation"]},
+    "orders": {
+        "exchange": ["loop", "kind", "other"], "orderless": ["loop"], "idle": ["loop"],
+        "idle_fields": ["loop", "kind"], "once": ["loop", "kind"], "undoes": ["loop", "kind", "other"],
+    },
 }
 
 # The classes of each file that has landed, with the arguments of their methods. (The errors: test_errors.)
@@ -45,6 +54,13 @@ CLASSES = {
             "powers": ["self"], "__eq__": ["self", "other"],
         },
     },
+    "comparing": {"Parting": {}},
+    "relations": {
+        "Relation": {
+            "__init__": ["self", "terms"], "terms": ["self"], "__eq__": ["self", "other"], "__str__": ["self"],
+        },
+    },
+    "orders": {"Exchange": {}},
 }
 
 
