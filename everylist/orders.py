@@ -21,11 +21,12 @@ class Exchange:
 
 def exchange(loop, kind, other):
     """Returns the Exchange of rows of two kinds, or None if such neighbours can always change places."""
-    _check_kinds(loop, kind, other)
+    # The rows raise NoKind themselves.
+    many = len(loop.rows.fields_of(kind))
+    loop.rows.fields_of(other)
     form = Form(loop)
     least = form.least()
     machine = machine_of([least])
-    many = len(loop.rows.fields_of(kind))
     found = []
     for rows in form.beginnings:
         bundle = _swapped(machine, kind, other, _vector_behind(least, rows))
@@ -64,7 +65,8 @@ def idle_fields(loop, kind):
 
 def once(loop, kind):
     """Tells whether of two neighbours of a kind with the same numbers one can always be left out."""
-    _check_kinds(loop, kind, kind)
+    # The rows raise NoKind themselves.
+    loop.rows.fields_of(kind)
     machine = machine_of([Form(loop).least()])
     scale = machine.scales[kind]
     for vector in _units(machine):
@@ -76,7 +78,7 @@ def once(loop, kind):
 
 def undoes(loop, kind, other):
     """Tells whether a row of a kind and one of another with the same numbers behind it can always be left out both."""
-    _check_kinds(loop, kind, other)
+    # The rows raise NoKind themselves.
     fields = loop.rows.fields_of(kind)
     if len(fields) != len(loop.rows.fields_of(other)):
         raise UnlikeFields()
@@ -87,13 +89,6 @@ def undoes(loop, kind, other):
         if len(total_of(_same_numbers(machine, kind, other, vector) + none)) > 0:
             return False
     return True
-
-
-def _check_kinds(loop, kind, other):
-    """Raises NoKind for the first of two things that is no kind of the loop."""
-    # The rows raise it themselves.
-    loop.rows.fields_of(kind)
-    loop.rows.fields_of(other)
 
 
 def _order_of(rows, kinds):

@@ -110,7 +110,15 @@ class ExchangeTest(OrdersTest):
         self.assert_exchange(exchange(loop, "go", "go"), [("go", 0), ("go", 1), ("go", 0)], 0)
         loop = Loop(rows, {"a": 0, "b": 0}, {"go": {"a": "x", "b": "a"}}, "b")
         self.assert_exchange(exchange(loop, "go", "go"), [("go", 0), ("go", 1)], 0)
-        # Neighbours at place 1 alone matter: the row k in front is needed.
+        # Of three rows the first, twice the second and three times the third number, of other lists 0: neighbours at
+        # place 0 and at place 1 cannot change places.
+        changes = {"g": "0", "h": "g", "i": "h", "a": "x*g", "b": "a + 2*x*h", "c": "b + 3*x*i"}
+        for fields in (["x"], ["x", "y"], ["y", "x"]):
+            loop = Loop(Rows([["go", fields]]), {"g": 1, "h": 0, "i": 0, "a": 0, "b": 0, "c": 0}, {"go": changes}, "c")
+            row = ("go", *[1 if field == "x" else 0 for field in fields])
+            zero = ("go", *[0 for _ in fields])
+            self.assert_exchange(exchange(loop, "go", "go"), [zero, zero, row], 1)
+        # Neighbours at place 1 alone matter: the row g in front is needed.
         rows = Rows([["g", []], ["k", []], ["l", []]])
         loop = Loop(rows, {"f": 0, "u": 1}, {"g": {"f": "f + 1"}, "k": {"u": "u + f"}, "l": {"u": "2*u"}}, "u")
         self.assert_exchange(exchange(loop, "k", "l"), [("g",), ("k",), ("l",)], 1)
