@@ -4,7 +4,7 @@ A bundle is a dict from tuples of powers, one for each field, to vectors: at eac
 number with which these powers go into one of the polynomials. No vector in it is 0.
 """
 
-from everylist.vectors import is_zero, plus_times
+from everylist.vectors import cut, is_zero, plus_times
 
 
 def total_of(pairs):
@@ -31,11 +31,12 @@ def at_point(bundle, point, size):
     return total
 
 
-def first_point(bundles):
+def first_point(bundles, prime=0):
     """Returns the first tuple of integers from 0 on at which one of the polynomials is not 0; None if all are 0.
 
     A polynomial of power g in a field that is not 0 is not 0 for all numbers from 0 to g in its place. So the first
-    number for the first field is the first one that leaves a polynomial that is not 0, and so on.
+    number for the first field is the first one that leaves a polynomial that is not 0, and so on. The same holds for
+    rests by a prime, if that is not 0, as long as powers are below it.
     """
     left = [bundle for bundle in bundles if len(bundle) > 0]
     if len(left) == 0:
@@ -43,10 +44,10 @@ def first_point(bundles):
     point = []
     for _ in range(len(list(left[0])[0])):
         number = 0
-        put = _all_put(left, number)
+        put = _all_put(left, number, prime)
         while len(put) == 0:
             number += 1
-            put = _all_put(left, number)
+            put = _all_put(left, number, prime)
         left = put
         point.append(number)
     return tuple(point)
@@ -60,14 +61,15 @@ def power_of(number, power):
     return found
 
 
-def _all_put(bundles, number):
+def _all_put(bundles, number, prime):
     """Returns the bundles that are left with a number in the place of the first field, those that are 0 left out."""
-    found = [_put(bundle, number) for bundle in bundles]
+    found = [_put(bundle, number, prime) for bundle in bundles]
     return [bundle for bundle in found if len(bundle) > 0]
 
 
-def _put(bundle, number):
+def _put(bundle, number, prime):
     """Returns the bundle, in the other fields, with a number in the place of the first field."""
     zero = [0] * len(list(bundle.values())[0])
-    return total_of([(powers[1:], plus_times(zero, vector, power_of(number, powers[0])))
-                     for powers, vector in bundle.items()])
+    put = total_of([(powers[1:], plus_times(zero, vector, power_of(number, powers[0])))
+                    for powers, vector in bundle.items()])
+    return without_zeros({powers: cut(vector, prime) for powers, vector in put.items()})

@@ -39,10 +39,10 @@ def _first_unlike(one, other):
     """Returns the first list of rows for which two loops do not tell the same, or None."""
     if one.rows != other.rows:
         raise UnlikeRows()
-    return first_list(machine_of([one, other]), _difference(told_by(one), told_by(other)))
+    return first_list(machine_of([one, other]), difference(told_by(one), told_by(other)))
 
 
-def _difference(one, other):
+def difference(one, other):
     """Returns the covector of the difference of what two loops tell, that have their registers side by side."""
     numbers = [one[0] - other[0], *one[1:], *[-number for number in other[1:]]]
     return made_whole(numbers, common_bottom(numbers))

@@ -5,18 +5,20 @@ matter up to a factor, so that all numbers are integers.
 """
 
 from everylist.bundles import at_point, first_point, without_zeros
-from everylist.vectors import Space, common_bottom, dot, made_whole, shortened
+from everylist.vectors import Space, common_bottom, cut, dot, is_zero, made_whole, shortened
 
 
 class Machine:
     """Vectors, and what rows of each kind make of them.
 
     `begins` is the vector of the empty list. `moves` has for each kind a dict from powers of its fields to lists of
-    triples (target, source, number); `scales` has for each kind the factor with which its numbers became integers.
+    triples (target, source, number); `scales` has for each kind the factor with which its numbers became integers. If
+    `prime` is not 0, all numbers stand for their rests by it.
     """
 
-    def __init__(self, rows, begins, moves):
+    def __init__(self, rows, begins, moves, prime=0):
         self.rows = rows
+        self.prime = prime
         self.begins = made_whole(begins, common_bottom(begins))
         self.scales = {kind: _scale_of(moves[kind]) for kind in moves}
         self.moves = {kind: _whole_moves(moves[kind], self.scales[kind]) for kind in moves}
@@ -51,6 +53,16 @@ def machine_of(loops):
     return Machine(rows, begins, {kind: _moves_of(loops, kind) for kind in rows.kinds()})
 
 
+def machine_by_prime(loops, prime):
+    """Returns the machine of some whole loops over equal rows, side by side, of the rests by a prime.
+
+    An integer to the power of the prime has its own rest by the prime, so that no power needs to be as great.
+    """
+    machine = machine_of(loops)
+    moves = {kind: _lesser_moves(machine.moves[kind], prime) for kind in machine.moves}
+    return Machine(machine.rows, machine.begins, moves, prime)
+
+
 def told_by(loop):
     """Returns the list of the numbers with which 1 and the registers go into what a loop tells."""
     return [loop.told_part(source) for source in sources_of(loop)]
@@ -67,13 +79,13 @@ def first_lists(machine, aim):
     A list that is not among them is not one with any row behind it. The lists end with the first one with which the
     aim, a covector, is not 0: no list that is left out can be the first one, for it is 0 with sums of earlier ones.
     """
-    space = Space(len(machine.begins))
+    space = Space(len(machine.begins), machine.prime)
     space.widen(machine.begins)
     found = [([], machine.begins)]
     at = 0
     while at < len(found):
         rows, vector = found[at]
-        if dot(aim, vector) != 0:
+        if not _is_missed(machine, aim, vector):
             return found[:at + 1]
         found = found + _next_lists(machine, space, rows, vector)
         at += 1
@@ -88,7 +100,12 @@ def all_lists(machine):
 def first_list(machine, aim):
     """Returns the first list of rows with whose vector the aim, a covector, is not 0, or None."""
     rows, vector = first_lists(machine, aim)[-1]
-    return rows if dot(aim, vector) != 0 else None
+    return None if _is_missed(machine, aim, vector) else rows
+
+
+def _is_missed(machine, aim, vector):
+    """Tells whether a covector is 0 with a vector."""
+    return is_zero(cut([dot(aim, vector)], machine.prime))
 
 
 def _next_lists(machine, space, rows, vector):
@@ -96,12 +113,12 @@ def _next_lists(machine, space, rows, vector):
     found = []
     for kind in machine.rows.kinds():
         bundle = machine.moved(kind, vector)
-        point = first_point([rests(space, bundle)])
+        point = first_point([rests(space, bundle)], machine.prime)
         while point is not None:
-            behind = shortened(at_point(bundle, point, len(vector)))
+            behind = shortened(cut(at_point(bundle, point, len(vector)), machine.prime))
             space.widen(behind)
             found.append(([*rows, (kind, *point)], behind))
-            point = first_point([rests(space, bundle)])
+            point = first_point([rests(space, bundle)], machine.prime)
     return found
 
 
@@ -125,6 +142,15 @@ def _moves_of(loops, kind):
                     moves.setdefault(powers, []).append((shift + 1 + target, place, number))
         shift = shift + len(names)
     return moves
+
+
+def _lesser_moves(moves, prime):
+    """Returns the moves of a kind with powers below a prime in the place of greater ones with the same rests."""
+    found = {}
+    for powers, triples in moves.items():
+        lesser = tuple([power if power < prime else (power - 1) % (prime - 1) + 1 for power in powers])
+        found.setdefault(lesser, []).extend(triples)
+    return found
 
 
 def _parts_of(loop, kind, name):

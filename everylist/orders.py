@@ -7,8 +7,9 @@ they can be is no less than all, two ways to change them tell the same always on
 from everylist.bundles import at_point, first_point, total_of, without_zeros
 from everylist.errors import UnlikeFields
 from everylist.machines import machine_of
+from everylist.matrices import applied, multiplied, row_matrix, step_matrices, times_one
 from everylist.reducing import Form
-from everylist.vectors import common_bottom, first_place, made_whole, times, unit
+from everylist.vectors import common_bottom, first_place, is_zero, made_whole, plus_times, times, unit
 
 
 class Exchange:
@@ -22,16 +23,19 @@ class Exchange:
 def exchange(loop, kind, other):
     """Returns the Exchange of rows of two kinds, or None if such neighbours can always change places."""
     # The rows raise NoKind themselves.
-    many = len(loop.rows.fields_of(kind))
+    loop.rows.fields_of(kind)
     loop.rows.fields_of(other)
     form = Form(loop)
     least = form.least()
     machine = machine_of([least])
+    steps = step_matrices(machine, other)
     found = []
     for rows in form.beginnings:
-        bundle = _swapped(machine, kind, other, _vector_behind(least, rows))
+        vector = _vector_behind(least, rows)
+        bundle = _swaps(machine, kind, steps, vector)
         if len(bundle) > 0:
-            found.append(_first_behind(many, kind, other, rows, bundle, form.ends))
+            two, end = _first_swap(machine, kind, other, vector, bundle, form.ends)
+            found.append(Exchange([*rows, *two, *end], len(rows)))
     if len(found) == 0:
         return None
     kinds = loop.rows.kinds()
@@ -41,10 +45,10 @@ def exchange(loop, kind, other):
 def orderless(loop):
     """Tells whether the loop tells the same of all lists that have the same rows in some order."""
     machine = machine_of([Form(loop).least()])
-    kinds = loop.rows.kinds()
-    for at, kind in enumerate(kinds):
-        for other in kinds[at:]:
-            if any([len(_swapped(machine, kind, other, vector)) > 0 for vector in _units(machine)]):
+    steps = [step_matrices(machine, kind) for kind in loop.rows.kinds()]
+    for at, some in enumerate(steps):
+        for others in steps[at:]:
+            if any([multiplied(one, other) != multiplied(other, one) for one in some for other in others]):
                 return False
     return True
 
@@ -69,6 +73,9 @@ def once(loop, kind):
     loop.rows.fields_of(kind)
     machine = machine_of([Form(loop).least()])
     scale = machine.scales[kind]
+    matrix = row_matrix(machine, _some_row(loop, kind))
+    if multiplied(matrix, matrix) != [times(numbers, scale) for numbers in matrix]:
+        return False
     for vector in _units(machine):
         one = [(powers, times(behind, -scale)) for powers, behind in machine.moved(kind, vector).items()]
         if len(total_of(_same_numbers(machine, kind, kind, vector) + one)) > 0:
@@ -84,11 +91,22 @@ def undoes(loop, kind, other):
         raise UnlikeFields()
     machine = machine_of([Form(loop).least()])
     scale = machine.scales[kind] * machine.scales[other]
+    one, two = [row_matrix(machine, _some_row(loop, each)) for each in (kind, other)]
+    if multiplied(two, one) != times_one(len(one), scale):
+        return False
     for vector in _units(machine):
         none = [((0,) * len(fields), times(vector, -scale))]
         if len(total_of(_same_numbers(machine, kind, other, vector) + none)) > 0:
             return False
     return True
+
+
+def _some_row(loop, kind):
+    """Returns a row of a kind.
+
+    Of most rows it shows at once that they do something, before all powers of their fields are looked at.
+    """
+    return (kind, *[place + 2 for place in range(len(loop.rows.fields_of(kind)))])
 
 
 def _order_of(rows, kinds):
@@ -108,39 +126,54 @@ def _vector_behind(loop, rows):
     return made_whole(numbers, common_bottom(numbers))
 
 
-def _both(machine, kind, other, vector):
-    """Returns triples of powers of a kind, powers of another and vectors: what a row of each makes of a vector."""
-    return [(first, second, behind) for first, middle in machine.moved(kind, vector).items()
-            for second, behind in machine.moved(other, middle).items()]
-
-
-def _swapped(machine, kind, other, vector):
-    """Returns the bundle, in the fields of two kinds, of what it does to a vector that two rows change places."""
-    there = [((*first, *second), behind) for first, second, behind in _both(machine, kind, other, vector)]
-    back = [((*first, *second), times(behind, -1)) for second, first, behind in _both(machine, other, kind, vector)]
-    return total_of(there + back)
-
-
 def _same_numbers(machine, kind, other, vector):
     """Returns pairs of powers and vectors: what two rows with the same numbers make of a vector."""
     return [(tuple([power + more for power, more in zip(first, second)]), behind)
-            for first, second, behind in _both(machine, kind, other, vector)]
+            for first, middle in machine.moved(kind, vector).items()
+            for second, behind in machine.moved(other, middle).items()]
 
 
-def _first_behind(many, kind, other, rows, bundle, ends):
-    """Returns the first Exchange with some rows in front of two that cannot change places, the first with many fields.
+def _swaps(machine, kind, steps, vector):
+    """Returns the bundle of what it does to a vector that a row of a kind changes places with each of some steps.
 
-    At place k + 1 the bundle tells what the exchange does to what is told with the end k behind.
+    The vectors that the steps give stand one behind the other.
     """
-    short = min([len(end) for place, end in enumerate(ends) if not _is_zero_at(bundle, place + 1)])
-    shortest = [place for place, end in enumerate(ends) if len(end) == short]
-    cut = {powers: [vector[place + 1] for place in shortest] for powers, vector in bundle.items()}
-    point = first_point([without_zeros(cut)])
-    done = at_point(cut, point, len(shortest))
-    end = ends[shortest[first_place(done)]]
-    return Exchange([*rows, (kind, *point[:many]), (other, *point[many:]), *end], len(rows))
+    zero = [0 for _ in vector]
+    there = machine.moved(kind, vector)
+    back = [machine.moved(kind, applied(step, vector)) for step in steps]
+    bundle = {}
+    for powers in machine.moves[kind]:
+        middle = there.get(powers, zero)
+        bundle[powers] = []
+        for step, swapped in zip(steps, back):
+            bundle[powers].extend(plus_times(applied(step, middle), swapped.get(powers, zero), -1))
+    return without_zeros(bundle)
 
 
-def _is_zero_at(bundle, place):
-    """Tells whether the polynomial at a place of a bundle is 0."""
-    return all([vector[place] == 0 for vector in bundle.values()])
+def _first_swap(machine, kind, other, vector, bundle, ends):
+    """Returns the first rows of two kinds behind a vector that cannot change places, and the first end that tells it.
+
+    At place k + 1 of each vector stands what is told with the end k behind.
+    """
+    size = len(vector)
+    short = min([len(end) for place, end in enumerate(ends) if not _is_zero_at(bundle, place + 1, size)])
+    shortest = [place + 1 for place, end in enumerate(ends) if len(end) == short]
+    row = (kind, *first_point([_parts_at(bundle, shortest, size)]))
+    matrix = row_matrix(machine, row)
+    there = list(machine.moved(other, applied(matrix, vector)).items())
+    back = [(powers, times(applied(matrix, behind), -1)) for powers, behind in machine.moved(other, vector).items()]
+    behind_row = _parts_at(total_of(there + back), shortest, size)
+    point = first_point([behind_row])
+    seen = first_place(at_point(behind_row, point, len(shortest)))
+    return [row, (other, *point)], ends[shortest[seen] - 1]
+
+
+def _is_zero_at(bundle, place, size):
+    """Tells whether the polynomials at a place are 0 in a bundle of vectors of so many places behind each other."""
+    return all([is_zero(vector[place::size]) for vector in bundle.values()])
+
+
+def _parts_at(bundle, chosen, size):
+    """Returns a bundle of vectors of so many places behind each other with some of the places alone."""
+    return without_zeros({powers: [number for place, number in enumerate(vector) if place % size in chosen]
+                          for powers, vector in bundle.items()})

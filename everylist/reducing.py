@@ -1,14 +1,12 @@
 """The one form of a loop: which lists make it up, and its numbers."""
 
+from everylist.building import free_names
 from everylist.bundles import at_point, first_point
-from everylist.checks import LETTERS
 from everylist.loops import loop_of_parts
 from everylist.machines import all_lists, machine_of, rests, told_by
 from everylist.polys import Poly
 from everylist.ratios import Ratio
-from everylist.vectors import Space, common_bottom, dot, made_whole, unit
-
-FIRST_LETTERS = "rstuvwxyz"
+from everylist.vectors import Space, common_bottom, dot, inverse, made_whole, unit
 
 
 class Form:
@@ -33,12 +31,13 @@ class Form:
         chosen = _beginnings_of(lists, self._covectors)
         self.beginnings = [rows for rows, _ in chosen]
         self._vectors = [vector for _, vector in chosen]
-        self._inverse_columns, self._inverse_scale = _inverse(self._covectors, self._vectors)
+        square = [_values(covector, self._vectors) for covector in self._covectors]
+        self._inverse_columns, self._inverse_scale = inverse(square)
 
     def least(self):
         """Returns the one form of the loop, whose registers are what it tells with its ends behind."""
         rows = self._loop.rows
-        names = _free_names(rows, len(self.ends))
+        names = free_names(rows, len(self.ends))
         starts = {name: self._loop.run(end) for name, end in zip(names, self.ends)}
         changes = {kind: self._changes(kind, names) for kind in rows.kinds()}
         # The first end, where there is one, is the empty list.
@@ -47,9 +46,9 @@ class Form:
 
     def _changes(self, kind, names):
         """Returns the dict from the registers of the one form to the parts of what they become."""
-        return {name: self._parts(kind, place + 1, ["1", *names]) for place, name in enumerate(names)}
+        return {name: self._parts_before(kind, place + 1, ["1", *names]) for place, name in enumerate(names)}
 
-    def _parts(self, kind, place, sources):
+    def _parts_before(self, kind, place, sources):
         """Returns the parts of what the covector at a place is before a row of a kind."""
         below = self._inverse_scale * self._factors[place] * self._machine.scales[kind]
         tables = {source: {} for source in sources}
@@ -112,16 +111,6 @@ def _beginnings_of(lists, covectors):
     return [(rows, vector) for rows, vector in lists if space.widen(_values(vector, covectors))]
 
 
-def _inverse(covectors, vectors):
-    """Returns the columns of the inverse of the square of the values of covectors with vectors, and its scale."""
-    size = len(covectors)
-    space = Space(2 * size)
-    for place, covector in enumerate(covectors):
-        space.widen([*_values(covector, vectors), *unit(size, place)])
-    rows = space.by_pivots()
-    return [[rows[pivot][size + place] for pivot in range(size)] for place in range(size)], space.scale()
-
-
 def _values(one, others):
     """Returns the list of the values of a covector with vectors, or of covectors with a vector."""
     return [dot(one, other) for other in others]
@@ -133,10 +122,3 @@ def _scale_of_rows(machine, rows):
     for row in rows:
         factor = factor * machine.scales[row[0]]
     return factor
-
-
-def _free_names(rows, many):
-    """Returns the list of the first names for registers that are no fields."""
-    fields = [field for kind in rows.kinds() for field in rows.fields_of(kind)]
-    names = [f"{first}{second}" for first in FIRST_LETTERS for second in LETTERS]
-    return [name for name in names if name not in fields][:many]

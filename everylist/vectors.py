@@ -1,6 +1,7 @@
 """Vectors: lists of integers, and the sums of some of them, each times a number.
 
-Where vectors only matter up to a factor they are integers, as integers are quicker than ratios.
+Where vectors only matter up to a factor they are integers, as integers are quicker than ratios. Where a prime is told,
+and not 0, all numbers stand for their rests by it.
 """
 
 from math import gcd, lcm
@@ -9,14 +10,15 @@ from everylist.ratios import bottom_of, top_of
 
 
 class Space:
-    """All sums of some vectors of so many integers, each times a number.
+    """All sums of some vectors of so many integers, each times a number; all of it by a prime, if that is not 0.
 
     The rows are those of the one reduced form: each begins at its pivot, the first place that is not 0, where all other
     rows have 0, and where it has the scale, which is the same for all rows.
     """
 
-    def __init__(self, size):
+    def __init__(self, size, prime=0):
         self._size = size
+        self._prime = prime
         self._scale = 1
         self._rows = {}
 
@@ -27,7 +29,7 @@ class Space:
             factor = vector[pivot]
             if factor != 0:
                 left = [number - factor * taken for number, taken in zip(left, row)]
-        return left
+        return cut(left, self._prime)
 
     def widen(self, vector):
         """Takes a vector into the space, and tells whether it was in none of its sums."""
@@ -56,11 +58,43 @@ class Space:
         return {pivot: list(self._rows[pivot]) for pivot in sorted(list(self._rows))}
 
     def _keep(self, table, scale):
+        """Keeps these rows with this scale, with numbers as small as they can be."""
+        if self._prime > 0:
+            factor = inverse_by(self._prime, scale)
+            self._rows = {pivot: cut(times(row, factor), self._prime) for pivot, row in table.items()}
+            return
         divisor = scale
         for row in table.values():
             divisor = gcd(divisor, divisor_of(row))
         self._scale = scale // divisor
         self._rows = {pivot: [number // divisor for number in row] for pivot, row in table.items()}
+
+
+def inverse(square):
+    """Returns the columns of the inverse of a square of integers, times a number, and this number."""
+    size = len(square)
+    space = Space(2 * size)
+    for place, numbers in enumerate(square):
+        space.widen([*numbers, *unit(size, place)])
+    rows = space.by_pivots()
+    return [[rows[pivot][size + place] for pivot in range(size)] for place in range(size)], space.scale()
+
+
+def inverse_by(prime, number):
+    """Returns what gives the rest 1 by a prime, times a number that is no multiple of it."""
+    # Of each rest the factor is known that gives it, times the number: those of the prime itself and of the number.
+    rest, next_rest = prime, number % prime
+    factor, next_factor = 0, 1
+    while next_rest > 0:
+        times_in = rest // next_rest
+        rest, next_rest = next_rest, rest - times_in * next_rest
+        factor, next_factor = next_factor, factor - times_in * next_factor
+    return factor % prime
+
+
+def cut(vector, prime):
+    """Returns the rests of the numbers by a prime, or the numbers if it is 0."""
+    return [number % prime for number in vector] if prime > 0 else vector
 
 
 def plus_times(one, other, factor):

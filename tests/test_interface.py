@@ -18,6 +18,20 @@ FUNCTIONS = {
         "exchange": ["loop", "kind", "other"], "orderless": ["loop"], "idle": ["loop"],
         "idle_fields": ["loop", "kind"], "once": ["loop", "kind"], "undoes": ["loop", "kind", "other"],
     },
+    "built": {
+        "plus": ["one", "other"], "minus": ["one", "other"], "product": ["one", "other"], "scaled": ["loop", "number"],
+        "turned": ["loop"], "after": ["loop", "rows"], "before": ["loop", "rows"], "running": ["loop"],
+        "only": ["loop", "kinds"], "led": ["loop", "rows", "ways"], "beside": ["one", "other"],
+    },
+    "mends": {
+        "places": ["loop"], "number_at": ["loop", "place"], "put_at": ["loop", "place", "number"],
+        "mends": ["loop", "wish"],
+    },
+    "finding": {"find_loop": ["rows", "powers", "most", "tell"]},
+    "again": {
+        "recurrence": ["loop", "block"], "far": ["loop", "blocks", "modulus"],
+        "parting_rests": ["one", "other", "prime"],
+    },
 }
 
 # The classes of each file that has landed, with the arguments of their methods. (The errors: test_errors.)

@@ -227,6 +227,18 @@ class NamesTest(unittest.TestCase):
             taken |= {node.name for node in ast.walk(tree) if isinstance(node, ast.ClassDef)}
             self.assertEqual(taken & given_names(tree), set(), name)
 
+    def test_no_name_is_a_method_and_an_attribute(self):
+        bodies = [node for owner, _ in nodes(ast.ClassDef) for node in owner.body]
+        methods = {node.name for node in bodies if isinstance(node, ast.FunctionDef)}
+        given = {node.attr for node, _ in nodes(ast.Attribute) if isinstance(node.ctx, ast.Store)}
+        self.assertEqual(methods & given, set())
+        for node, at in nodes(ast.Attribute):
+            self.assertTrue(node.attr in METHODS | methods | given, at)
+
+    def test_names_of_classes_begin_with_a_letter(self):
+        for node, at in nodes(ast.ClassDef):
+            self.assertRegex(node.name, r"\A[A-Za-z]", at)
+
     def test_methods_that_are_called(self):
         own = {node.name for node, _ in nodes(ast.FunctionDef)}
         for node, at in nodes(ast.Call):

@@ -9,11 +9,12 @@ from reckoning import Span, drawn_model, drawn_rows, grid_lists, value
 
 from everylist.bundles import at_point, first_point, power_of, total_of, without_zeros
 from everylist.loops import Loop
-from everylist.machines import all_lists, first_list, first_lists, machine_of, rests, sources_of, told_by
+from everylist.machines import (all_lists, first_list, first_lists, machine_by_prime, machine_of, rests, sources_of,
+                                told_by)
 from everylist.ratios import Ratio
 from everylist.rows import Rows
-from everylist.vectors import (Space, common_bottom, divisor_of, dot, first_place, is_zero, made_whole, plus_times,
-                               shortened, times, unit)
+from everylist.vectors import (Space, common_bottom, cut, divisor_of, dot, first_place, inverse, inverse_by, is_zero,
+                               made_whole, plus_times, shortened, times, unit)
 
 NUMBERS = Rows([["row", ["x"]]])
 
@@ -55,6 +56,32 @@ class VectorsTest(unittest.TestCase):
                              [space.scale() if one == pivot else 0 for one in rows])
         self.assertIn(divisor_of([space.scale(), *[number for row in rows.values() for number in row]]), (0, 1))
 
+    def test_spaces_by_a_prime(self):
+        source = random.Random(5)
+        for _ in range(100):
+            prime, size = source.choice([2, 3, 5, 7]), source.randint(1, 3)
+            space, members = Space(size, prime), {(0,) * size}
+            for _ in range(4):
+                vector = tuple([source.randint(-9, 9) for _ in range(size)])
+                is_new = tuple(cut(vector, prime)) not in members
+                self.assertEqual(is_zero(space.rest(vector)), not is_new)
+                self.assertIs(space.widen(vector), is_new)
+                members = {tuple([(one + k * more) % prime for one, more in zip(member, vector)])
+                           for member in members for k in range(prime)}
+                self.assertIs(space.is_full(), len(members) == prime ** size)
+                self.assertEqual(space.scale(), 1)
+
+    def test_inverses(self):
+        self.assertEqual(cut([5, -1, 7], 3), [2, 2, 1])
+        self.assertEqual(cut([5, -1, 7], 0), [5, -1, 7])
+        for prime in (2, 3, 5, 7, 997):
+            for number in range(1, min(prime, 30)):
+                self.assertEqual(number * inverse_by(prime, number) % prime, 1)
+                self.assertEqual((number - prime) * inverse_by(prime, number - prime) % prime, 1)
+        columns, scale = inverse([[0, 2, 1], [1, 1, 0], [3, 0, 5]])
+        for row, place in (([0, 2, 1], 0), ([1, 1, 0], 1), ([3, 0, 5], 2)):
+            self.assertEqual([dot(row, column) for column in columns], times(unit(3, place), scale))
+
     def test_rests_are_linear(self):
         space = Space(4)
         for vector in ([2, 1, 0, 3], [0, 5, 1, 1]):
@@ -77,6 +104,15 @@ class BundlesTest(unittest.TestCase):
         self.assertIsNone(first_point([]))
         self.assertIsNone(first_point([{}, {}]))
         self.assertEqual(first_point([{}, {(): [0, 1]}]), ())
+
+    def test_first_points_by_a_prime(self):
+        self.assertIsNone(first_point([without_zeros({})], 3))
+        self.assertEqual(first_point([{(2,): [1], (1,): [-1]}], 3), (2,))
+        self.assertEqual(first_point([{(1,): [1, 0]}], 2), (1,))
+        self.assertEqual(first_point([{(1, 2): [1], (1, 1): [-1], (0, 1): [2], (0, 2): [1]}], 3), (0, 2))
+        self.assertEqual(first_point([{(2,): [1], (1,): [-3], (0,): [2]}], 5), (0,))
+        self.assertEqual(first_point([{(0,): [4], (1,): [1]}], 5), (0,))
+        self.assertEqual(first_point([{(0,): [5], (1,): [1]}], 5), (1,))
 
     def test_first_points(self):
         source = random.Random(2)
@@ -145,6 +181,18 @@ class MachinesTest(unittest.TestCase):
             self.assertEqual(first_list(machine, aim), hit[0] if hit else None)
             if hit:
                 self.assertEqual([rows for rows, _ in first_lists(machine, aim)], expected[:expected.index(hit[0]) + 1])
+
+    def test_machines_by_a_prime(self):
+        loop = Loop(NUMBERS, {"a": 2, "b": 3}, {"row": {"a": "x^5*a + x^4 + x", "b": "x^3*b - 7*x^2 + 5"}}, "a")
+        for prime in (2, 3, 5, 7):
+            machine = machine_by_prime([loop], prime)
+            self.assertEqual(machine.prime, prime)
+            for power in [one for powers in machine.moves["row"] for one in powers]:
+                self.assertLess(power, prime)
+            for number in range(-3, 9):
+                behind = at_point(machine.moved("row", machine.begins), (number,), 3)
+                expected = [1, *loop.behind([("row", number)]).values()]
+                self.assertEqual(cut(behind, prime), cut(expected, prime))
 
     def test_rests_of_bundles(self):
         space = Space(2)
