@@ -8,6 +8,7 @@ from unittest import mock
 
 from reckoning import Model, Span, drawn_model, drawn_row, drawn_rows, grid_lists, joined_powers, value
 
+from everylist import again
 from everylist.again import EXPONENTS, far, parting_rests, recurrence
 from everylist.built import product, running, scaled
 from everylist.errors import BadRow, ListError, NoMany, NoModulus, NoPrime, NotWhole, UnlikeRows
@@ -96,6 +97,14 @@ class RecurrenceTest(AgainTest):
             for exponents in ((), (2,), (127,), (3, 5, 7)):
                 with mock.patch("everylist.again.EXPONENTS", exponents):
                     self.assertEqual(recurrence(loop, block), expected)
+
+    def test_small_numbers_are_found_by_the_first_prime(self):
+        for loop, block in ((HORNER, [("row", 1)]), (FIBONACCI, [("go",)] * 2), (FIBONACCI, [("go",)] * 80)):
+            with mock.patch("everylist.again._sums_by", wraps=again._sums_by) as sums_by:
+                expected = recurrence(loop, block)
+            self.assertEqual([call.args[0] for call in sums_by.call_args_list], [2 ** 127 - 1])
+            with mock.patch("everylist.again.EXPONENTS", ()):
+                self.assertEqual(recurrence(loop, block), expected)
 
     def test_the_exponents_tell_primes(self):
         for exponent in EXPONENTS[:3]:

@@ -319,6 +319,20 @@ class OnceTest(OrdersTest):
             mean = Loop(NUMBERS, {"t": 1, "u": 2}, {"row": {"t": text, "u": "1/2*t + 1/2*u"}}, "t")
             self.assertIs(once(mean, "row"), expected)
 
+    def test_numbers_with_which_one_can_be_left_out_are_not_all(self):
+        rows = Rows([["row", ["x", "y", "z"]], ["more", ["u", "v", "w"]]])
+        for place, field in enumerate("xyz"):
+            for number in range(6):
+                loop = Loop(rows, {"t": 1}, {"row": {"t": f"t + {field} - {number}"}}, "t")
+                self.assertFalse(once(loop, "row"))
+                self.assertTrue(once(loop, "more"))
+                self.assertFalse(undoes(loop, "row", "more"))
+                self.assertFalse(undoes(loop, "more", "row"))
+                self.assertTrue(undoes(loop, "more", "more"))
+                loop = Loop(rows, {"t": 1}, {"more": {"t": f"{'uvw'[place]}*t - {number}*t + t"}}, "t")
+                self.assertFalse(once(loop, "more"))
+                self.assertFalse(undoes(loop, "row", "more"))
+
     def test_loops_without_registers(self):
         self.assertTrue(once(Loop(NUMBERS, {}, {}, "1"), "row"))
 
