@@ -55,11 +55,14 @@ class Found:
 
     def _beginnings_of(self, short):
         space = Space(len(self.ends) + 1)
-        return [front for front in short if space.widen([1, *[self._whole[(*front, *end)] for end in self.ends]])]
+        return [front for front in short if space.widen([1, *[self._value(front, end) for end in self.ends]])]
 
     def _values(self, fronts, end):
-        """Returns the list of what is told of some lists with an end behind, times the factor."""
-        return [self._whole[(*front, *end)] for front in fronts]
+        return [self._value(front, end) for front in fronts]
+
+    def _value(self, front, end):
+        """Returns what is told of a list with an end behind, times the factor."""
+        return self._whole[tuple(front + end)]
 
     def _table_of(self, kind):
         """Returns the table of what the registers become at a row of a kind, told by what they become at all points."""

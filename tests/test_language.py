@@ -63,6 +63,14 @@ def nodes(*kinds):
     return found
 
 
+def stars_in_indexes(tree):
+    """The lines of all stars within the brackets of a subscript, however deep: in literals, calls and targets."""
+    inner = [node for index in ast.walk(tree) if isinstance(index, ast.Subscript) for node in ast.walk(index.slice)]
+    found = {node.lineno for node in inner if isinstance(node, ast.Starred)}
+    found |= {node.lineno for node in inner if isinstance(node, ast.Dict) and None in node.keys}
+    return sorted(found | {node.lineno for node in inner if isinstance(node, ast.keyword) and node.arg is None})
+
+
 def given_names(tree):
     """The names of all parameters and variables of a file."""
     found = {node.arg for node in ast.walk(tree) if isinstance(node, ast.arg)}
@@ -167,6 +175,21 @@ class StatementsTest(unittest.TestCase):
         for node, at in nodes(ast.Call):
             if isinstance(node.func, ast.Name) and node.func.id in set.union(*LIBRARY.values()):
                 self.assertEqual([one for one in node.args if isinstance(one, ast.Starred)] + node.keywords, [], at)
+
+    def test_no_stars_in_indexes(self):
+        for name, tree in trees():
+            self.assertEqual(stars_in_indexes(tree), [], name)
+
+    def test_stars_in_indexes_are_found_and_no_others(self):
+        for code in ["xs[*a]", "xs[(*a, *b)]", "xs[(k, *a)]", "xs[0, *a]", "xs[[*a]]", "xs[f(*a)]", "xs[f(**d)]",
+                     "xs[len({**d})]", "xs[(*a,):]", "xs[0][(*a,)]", "xs[ys[(*a,)]]", "xs[ys[*a]].many", "del xs[(*a,)]",
+                     "xs[(*a,)] = 1", "xs[(*a,)] += 1", "[0, *[xs[(*a, *b)] for a in c]]", "{k: xs[(*k, 1)] for k in c}",
+                     "lambda a: xs[(*a,)]", "xs[min([b for _, *b in c])]"]:
+            self.assertEqual(stars_in_indexes(ast.parse(f"k = 0\n{code}")), [2], code)
+        for code in ["(*a, *b)", "[*xs[k], *ys]", "[1, *[xs[k] for k in a]]", "xs[k * 2]", "xs[2 ** k]", "f(*xs[k])",
+                     "f(**xs[k])", "{**xs[k]}", "xs[tuple(a + b)]", "a, *b = xs[k]", "k = (*a, 1)\nxs[k]", "xs[k] *= 2",
+                     "xs[{1: 2}[k]]", "xs[f(a, by=b)]"]:
+            self.assertEqual(stars_in_indexes(ast.parse(code)), [], code)
 
     def test_is_stands_beside_constants(self):
         for node, at in nodes(ast.Compare):
